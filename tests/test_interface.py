@@ -1,0 +1,33 @@
+"""The names of the interface are there, with its arguments as they stand."""
+
+import inspect
+import unittest
+
+from nearland import numbers, rings, turns
+
+ARGUMENTS = [
+    (numbers.is_whole, ["thing"]),
+    (numbers.fraction, ["top", "bottom"]),
+    (numbers.less, ["one", "other"]),
+    (numbers.point_of, ["p"]),
+    (turns.twice, ["a", "b", "c"]),
+    (turns.turn, ["a", "b", "c"]),
+    (turns.side_of, ["a", "b", "X"]),
+    (turns.between, ["a", "b", "c"]),
+    (rings.middle, ["a", "b", "c"]),
+    (rings.ring, ["a", "b", "c", "d"]),
+    (rings.spoils, ["a", "b", "c", "d"]),
+    (rings.square, ["p", "X"]),
+    (rings.nearer, ["X", "p", "q"]),
+]
+
+
+class Arguments(unittest.TestCase):
+    def test_arguments_are_called_as_the_interface_says(self):
+        for function, names in ARGUMENTS:
+            with self.subTest(function=function.__name__):
+                self.assertEqual(list(inspect.signature(function).parameters), names)
+
+
+if __name__ == "__main__":
+    unittest.main()
