@@ -42,6 +42,13 @@ NAMES_OUT = set("""
     copyright credits delattr dir eval exec exit gc getattr globals hasattr help id importlib license locals
     methodcaller os quit setattr super vars sys
 """.split())
+# L22 and L23.
+KEYWORDS = {
+    "sorted": {"key", "reverse"}, "min": {"key", "default"}, "max": {"key", "default"}, "sum": {"start"},
+    "enumerate": {"start"}, "zip": {"strict"},
+}
+WALKED_AT_ONCE = {"zip", "enumerate", "reversed", "range", "items", "keys", "values"}
+WALKERS = {"list", "tuple", "dict", "sorted", "sum", "any", "all", "enumerate", "zip", "min", "max", "join"}
 SPECIAL_METHODS = {"__init__", "__eq__", "__repr__", "__str__", "__len__"}
 
 
@@ -64,6 +71,13 @@ def defined(tree):
 
 def imports(tree):
     return [node for node in ast.walk(tree) if isinstance(node, ast.ImportFrom)]
+
+
+def called(node):
+    """The name of what a call calls, None of what is no call of a name or a method."""
+    if not isinstance(node, ast.Call):
+        return None
+    return getattr(node.func, "id", None) or getattr(node.func, "attr", None)
 
 
 class Files(unittest.TestCase):
@@ -174,6 +188,39 @@ class Rows(unittest.TestCase):
         for where, node in self.each(ast.Attribute):
             self.assertIn(node.attr, METHODS | own, where)
             self.assertNotIn(node.attr, NAMES_OUT, where)
+
+    def test_locals_are_not_called_like_an_import_or_a_class(self):
+        for path, tree in trees():
+            taken = {alias.name for node in imports(tree) for alias in node.names}
+            taken.update(node.name for node in tree.body if isinstance(node, ast.ClassDef))
+            for node in ast.walk(tree):
+                where = f"{path.name}:{getattr(node, 'lineno', 0)}"
+                if isinstance(node, ast.arg):
+                    self.assertNotIn(node.arg, taken, where)
+                if isinstance(node, ast.Name) and isinstance(node.ctx, ast.Store):
+                    self.assertNotIn(node.id, taken, where)
+
+    def test_keywords(self):
+        own = {node.name for where, node in self.each(ast.FunctionDef)}
+        for where, node in self.each(ast.Call):
+            if called(node) not in own:
+                for keyword in node.keywords:
+                    self.assertIn(keyword.arg, KEYWORDS.get(called(node), set()), where)
+
+    def test_what_is_walked_at_once_and_sets(self):
+        for path, tree in trees():
+            for outer in ast.walk(tree):
+                for node in ast.iter_child_nodes(outer):
+                    where = f"{path.name}:{getattr(node, 'lineno', 0)}"
+                    name = called(node)
+                    if name in WALKED_AT_ONCE:
+                        looped = isinstance(outer, (ast.For, ast.comprehension)) and outer.iter is node
+                        self.assertTrue(looped or called(outer) in WALKERS, where)
+                    if name in ("set", "frozenset"):
+                        in_place = isinstance(outer, (ast.Compare, ast.BinOp)) or called(outer) in ("sorted", "len")
+                        self.assertTrue(in_place, where)
+                    if isinstance(node, ast.Set):
+                        self.assertIsInstance(outer, ast.Compare, where)
 
 
 if __name__ == "__main__":

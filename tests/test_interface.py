@@ -3,7 +3,7 @@
 import inspect
 import unittest
 
-from nearland import numbers, rings, turns
+from nearland import covers, measures, numbers, outlines, rings, sweeps, turns
 
 ARGUMENTS = [
     (numbers.is_whole, ["thing"]),
@@ -19,6 +19,15 @@ ARGUMENTS = [
     (rings.spoils, ["a", "b", "c", "d"]),
     (rings.square, ["p", "X"]),
     (rings.nearer, ["X", "p", "q"]),
+    (outlines.outline, ["places"]),
+    (covers.sides_of, ["cover"]),
+    (covers.ties, ["places", "cover"]),
+    (covers.area, ["cover"]),
+    (covers.at, ["cover", "X"]),
+    (covers.fault, ["places", "triples"]),
+    (sweeps.swept, ["places"]),
+    (measures.measure, ["places", "cover"]),
+    (measures.sharpest, ["cover"]),
 ]
 
 

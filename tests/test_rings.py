@@ -4,6 +4,7 @@ import itertools
 import unittest
 from fractions import Fraction
 
+from exact import area, exact_middle, exact_point, exact_ring, exact_spoils, exact_square, pair_of
 from nearland.errors import Flat
 from nearland.numbers import point_of
 from nearland.rings import middle, nearer, ring, spoils, square
@@ -18,51 +19,6 @@ FLAT = [
     ((1, 2), (1, 2), (1, 2)),
     ((-FORTY, -FORTY), (0, 0), (FORTY, FORTY)),
 ]
-
-
-def exact_point(X):
-    return (Fraction(X[0][0], X[0][1]), Fraction(X[1][0], X[1][1]))
-
-
-def exact_square(p, X):
-    x, y = exact_point(X)
-    return (p[0] - x) ** 2 + (p[1] - y) ** 2
-
-
-def pair_of(number):
-    return (number.numerator, number.denominator)
-
-
-def area(a, b, c):
-    return (b[0] - a[0]) * (c[1] - a[1]) - (b[1] - a[1]) * (c[0] - a[0])
-
-
-def exact_middle(a, b, c):
-    """Where the two straight lines cross of which each point is as far from a as from b, or from c."""
-    b_row = (2 * (b[0] - a[0]), 2 * (b[1] - a[1]), b[0] ** 2 + b[1] ** 2 - a[0] ** 2 - a[1] ** 2)
-    c_row = (2 * (c[0] - a[0]), 2 * (c[1] - a[1]), c[0] ** 2 + c[1] ** 2 - a[0] ** 2 - a[1] ** 2)
-    below = b_row[0] * c_row[1] - b_row[1] * c_row[0]
-    x = Fraction(b_row[2] * c_row[1] - b_row[1] * c_row[2], below)
-    y = Fraction(b_row[0] * c_row[2] - b_row[2] * c_row[0], below)
-    return (pair_of(x), pair_of(y))
-
-
-def exact_ring(a, b, c, d):
-    X = exact_middle(a, b, c)
-    more = exact_square(a, X) - exact_square(d, X)
-    return (more > 0) - (more < 0)
-
-
-def exact_spoils(a, b, c, d):
-    lies = exact_ring(a, b, c, d)
-    if lies != 0:
-        return lies == 1
-    if d == a or d == b or d == c:
-        return False
-    least, two, three = sorted([a, b, c])
-    if d < a and d < b and d < c:
-        return True
-    return least < d and area(two, three, d) * area(two, three, least) < 0
 
 
 class Middles(unittest.TestCase):
