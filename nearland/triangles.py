@@ -1,5 +1,6 @@
 """Sides, directed sides and triangles, as the modules above them share them."""
 
+from nearland.rings import spoils
 from nearland.turns import turn
 
 
@@ -32,3 +33,10 @@ def directed_sides(cover):
     for t in cover:
         ways.extend([(one[0], one[1]) for one in rounds(t)])
     return ways
+
+
+def is_spoilt(places, t):
+    for d in places:
+        if spoils(t[0], t[1], t[2], d):
+            return True
+    return False

@@ -98,4 +98,5 @@ def parts_of_a_grid():
 def orders(places):
     """The list in some other orders."""
     half = len(places) // 2
-    return [places, places[::-1], sorted(places), sorted(places)[::-1], places[half:] + places[:half], places[::2] + places[1::2]]
+    line = sorted(places)
+    return [places, places[::-1], line, line[::-1], places[half:] + places[:half], places[::2] + places[1::2]]

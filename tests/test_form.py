@@ -116,7 +116,8 @@ class Files(unittest.TestCase):
 
 class Rows(unittest.TestCase):
     def each(self, kind):
-        return [(f"{path.name}:{node.lineno}", node) for path, tree in trees() for node in ast.walk(tree) if isinstance(node, kind)]
+        nodes = [(path, node) for path, tree in trees() for node in ast.walk(tree) if isinstance(node, kind)]
+        return [(f"{path.name}:{node.lineno}", node) for path, node in nodes]
 
     def test_only_the_listed_statements_and_expressions(self):
         for path, tree in trees():

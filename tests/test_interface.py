@@ -3,7 +3,9 @@
 import inspect
 import unittest
 
-from nearland import covers, measures, numbers, outlines, rings, sweeps, turns
+from nearland import (
+    covers, halving, measures, numbers, outlines, putting, rings, ringways, sweeps, turning, turns,
+)
 
 ARGUMENTS = [
     (numbers.is_whole, ["thing"]),
@@ -28,6 +30,15 @@ ARGUMENTS = [
     (sweeps.swept, ["places"]),
     (measures.measure, ["places", "cover"]),
     (measures.sharpest, ["cover"]),
+    (turning.wrong, ["cover"]),
+    (turning.turned_over, ["cover", "side"]),
+    (turning.turnings, ["cover"]),
+    (turning.by_turning, ["places"]),
+    (ringways.by_rings, ["places"]),
+    (putting.put_in, ["places", "net", "p"]),
+    (putting.by_putting, ["places"]),
+    (halving.halves, ["places"]),
+    (halving.by_halving, ["places"]),
 ]
 
 

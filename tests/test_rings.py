@@ -198,7 +198,8 @@ class Squares(unittest.TestCase):
             self.assert_square(p, point_of(p), (0, 1))
 
     def test_all_small_ones(self):
-        numbers = [(top, bottom) for top in range(-5, 6) for bottom in (1, 2, 3, 6) if Fraction(top, bottom).denominator == bottom]
+        pairs = itertools.product(range(-5, 6), (1, 2, 3, 6))
+        numbers = [(top, bottom) for top, bottom in pairs if Fraction(top, bottom).denominator == bottom]
         for p in GRID:
             for X in itertools.product(numbers, repeat=2):
                 self.assert_square(p, X, pair_of(exact_square(p, X)))
