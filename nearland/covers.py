@@ -17,6 +17,14 @@ def ties(places, cover):
     return list(zip(line, line[1:]))
 
 
+def neighbours(places, cover, p):
+    found = []
+    for side in ties(places, cover):
+        if p in side:
+            found.append(side[1] if side[0] == p else side[0])
+    return found
+
+
 def area(cover):
     return sum([twice(t[0], t[1], t[2]) for t in cover])
 

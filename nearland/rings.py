@@ -1,7 +1,7 @@
 """The ring through three places, what spoils them, and which of two places is nearer."""
 
 from nearland.errors import Flat
-from nearland.numbers import fraction, less, sign
+from nearland.numbers import fraction, sign
 from nearland.turns import turn, twice
 
 
@@ -47,20 +47,18 @@ def spoils(a, b, c, d):
     return turn(three[1], three[2], d) != turn(three[1], three[2], three[0])
 
 
+def whole_square(p, X):
+    # Times both bottoms all is whole: what is told is the square, times both bottoms twice.
+    right = (p[0] * X[0][1] - X[0][0]) * X[1][1]
+    up = (p[1] * X[1][1] - X[1][0]) * X[0][1]
+    return right * right + up * up
+
+
 def square(p, X):
-    x_bottom = X[0][1]
-    y_bottom = X[1][1]
-    right = (p[0] * x_bottom - X[0][0]) * y_bottom
-    up = (p[1] * y_bottom - X[1][0]) * x_bottom
-    bottom = x_bottom * y_bottom
-    return fraction(right * right + up * up, bottom * bottom)
+    bottom = X[0][1] * X[1][1]
+    return fraction(whole_square(p, X), bottom * bottom)
 
 
 def nearer(X, p, q):
-    p_square = square(p, X)
-    q_square = square(q, X)
-    if less(p_square, q_square):
-        return 1
-    if less(q_square, p_square):
-        return -1
-    return 0
+    # To one point the bottoms are alike, so that they need not be divided out.
+    return sign(whole_square(q, X) - whole_square(p, X))

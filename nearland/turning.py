@@ -50,15 +50,23 @@ def turned_over(cover, side):
     return sorted(stay + come)
 
 
-def turnings(cover):
-    net = list(cover)
+def least_to_turn(cover, kept):
+    return min([side for side in wrong(cover) if side not in kept], default=None)
+
+
+def turnings_but(cover, kept):
+    now = list(cover)
     turns = []
-    sides = wrong(net)
-    while sides != []:
-        turns.append((sides[0], other_side(net, sides[0])))
-        net = turned_over(net, sides[0])
-        sides = wrong(net)
-    return (turns, net)
+    side = least_to_turn(now, kept)
+    while side is not None:
+        turns.append((side, other_side(now, side)))
+        now = turned_over(now, side)
+        side = least_to_turn(now, kept)
+    return (turns, now)
+
+
+def turnings(cover):
+    return turnings_but(cover, [])
 
 
 def by_turning(places):

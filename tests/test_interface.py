@@ -4,7 +4,8 @@ import inspect
 import unittest
 
 from nearland import (
-    covers, halving, measures, numbers, outlines, putting, rings, ringways, sweeps, turning, turns,
+    covers, crossings, halving, keeping, lands, measures, numbers, outlines, putting, rings, ringways, sweeps, taking,
+    turning, turns,
 )
 
 ARGUMENTS = [
@@ -39,6 +40,14 @@ ARGUMENTS = [
     (putting.by_putting, ["places"]),
     (halving.halves, ["places"]),
     (halving.by_halving, ["places"]),
+    (taking.taken_out, ["places", "net", "p"]),
+    (crossings.meets, ["one", "other"]),
+    (crossings.shut, ["kept", "X", "d"]),
+    (keeping.kept_fault, ["places", "kept"]),
+    (keeping.kept_net, ["places", "kept"]),
+    (lands.heading, ["p", "q"]),
+    (lands.land, ["places", "net", "p"]),
+    (lands.lands, ["places", "net"]),
 ]
 
 

@@ -5,6 +5,7 @@ import unittest
 from exact import exact_net, spoils_kept
 from nearland.errors import Twice
 from nearland.putting import put_in
+from owning import assert_own
 from samples import ALL, CENTRED, FORTY, LINES, ONE, SQUARE, STRETCHES, TWO, orders, parts_of_a_grid
 
 LEAST_FAN = [((0, 0), (1, 0), (1, 1)), ((0, 0), (1, 1), (0, 1))]
@@ -97,21 +98,9 @@ class PutIn(unittest.TestCase):
                 self.assert_twice(places, exact_net(places), tuple(list(p)))
 
     def test_the_told_lists_belong_to_whoever_asked(self):
-        for p in [(0, 1), (5, 5), (1, 0)]:
-            places = [q for q in SQUARE if q != p]
-            net = exact_net(places)
-            given = (list(places), list(net))
-            wanted = put_in(places, net, p)
-            wanted = tuple(list(part) for part in wanted)
-            for part in put_in(places, net, p):
-                part.append("more")
-            self.assertEqual((places, net), given)
-            told = put_in(places, net, p)
-            places.clear()
-            net.clear()
-            self.assertEqual(told, wanted)
-            told[2].clear()
-            self.assertEqual(told[:2], wanted[:2])
+        for places in [[], ONE, TWO, SQUARE]:
+            for p in [(0, -1), (5, 5)]:
+                assert_own(self, put_in, places, exact_net(places), p)
 
 
 if __name__ == "__main__":
