@@ -1,5 +1,6 @@
-"""What the document says of sides that meet, kept sides, lands and what stands on them, reckoned without the package."""
+"""What the document says from sides that meet and lands on, reckoned anew without the package."""
 
+import itertools
 from fractions import Fraction
 from math import gcd
 
@@ -129,3 +130,23 @@ def exact_ties(places, cover):
         line = sorted(places)
         return list(zip(line, line[1:]))
     return exact_sides(cover)
+
+
+def exact_walk(places, net, start, X):
+    """Point 36, row by row."""
+    joined = exact_ties(places, net)
+    told = [start]
+    while True:
+        here = told[-1]
+        around = sorted(q for one in joined if here in one for q in one if q != here)
+        squares = {q: exact_square(q, X) for q in around + [here]}
+        if any(squares[q] < squares[here] for q in around):
+            told.append(min(around, key=lambda q: (squares[q], q)))
+        else:
+            return told + [q for q in around if squares[q] == squares[here] and q < here][:1]
+
+
+def exact_pairs(places):
+    """All pairs of places as sides, in the order of point 38, which is that of point 37 too."""
+    sides = [tuple(sorted(two)) for two in itertools.combinations(places, 2)]
+    return sorted(sides, key=lambda one: (exact_square(one[0], ((one[1][0], 1), (one[1][1], 1))), one))

@@ -1,6 +1,7 @@
 """Lists of places to ask the program about, the edges that the document names among them."""
 
 import itertools
+from fractions import Fraction
 
 FORTY = 10 ** 40 - 1
 
@@ -86,6 +87,28 @@ ALL = SMALL + SCATTERED + LARGE
 
 # Few enough places to look at every cover there is.
 FEW = [places for places in SMALL + SCATTERED if len(places) < 7] + [SLANTED, GRID_EIGHT, GRID_NINE, GREAT[5]]
+
+
+def points_about(places):
+    """Points to ask about: the places, points halfway and a third of the way between them, and some afar."""
+    found = [((x, 1), (y, 1)) for x, y in places]
+    for part in (2, 3):
+        for a, b in itertools.combinations(sorted(places)[:7], 2):
+            found.append(tuple(pair(Fraction(a[k] * (part - 1) + b[k], part)) for k in (0, 1)))
+    for a, b, c in itertools.combinations(sorted(places)[:5], 3):
+        found.append(tuple(pair(Fraction(a[k] + 2 * b[k] - c[k], 2)) for k in (0, 1)))
+    return found + AFAR
+
+
+def pair(number):
+    return (number.numerator, number.denominator)
+
+
+NEARLY_ONE = (10 ** 300 - 1, 10 ** 300 - 2)
+AFAR = [
+    ((0, 1), (0, 1)), ((-7, 2), (22, 7)), ((FORTY, 1), (-FORTY, 1)), ((1, 3), (10 ** 300 - 1, 1)),
+    (NEARLY_ONE, NEARLY_ONE), ((2 - 10 ** 300, 10 ** 300 - 1), (10 ** 299, 10 ** 300 - 1)), (NEARLY_ONE, (1, 2)),
+]
 
 
 def parts_of_a_grid():

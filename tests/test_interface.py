@@ -4,8 +4,8 @@ import inspect
 import unittest
 
 from nearland import (
-    covers, crossings, halving, keeping, lands, measures, numbers, outlines, putting, rings, ringways, sweeps, taking,
-    turning, turns,
+    covers, crossings, halving, keeping, landback, landpoints, lands, measures, numbers, outlines, pairs, putting, rings,
+    ringways, sweeps, taking, turning, turns, walks,
 )
 
 ARGUMENTS = [
@@ -48,6 +48,11 @@ ARGUMENTS = [
     (lands.heading, ["p", "q"]),
     (lands.land, ["places", "net", "p"]),
     (lands.lands, ["places", "net"]),
+    (landpoints.in_land, ["p", "land", "X"]),
+    (landback.net_of, ["some"]),
+    (walks.nearest, ["places", "X"]),
+    (walks.walk, ["places", "net", "start", "X"]),
+    (pairs.pair, ["places"]),
 ]
 
 
