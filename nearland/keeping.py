@@ -50,15 +50,17 @@ def sides_across(cover, side):
 
 
 def side_to_turn(across, side):
+    def how_far(p):
+        return (twice(side[0], side[1], p), p)
+
     # Of the ends at the left hand the farthest off, and of its sides the one whose other end is farthest off at the
     # right hand: at both there is no bay, so this side can always be turned over. Either there is then one fewer
     # across, or one fewer of them ends at the farthest place: so this comes to an end.
     ends = []
     for one in across:
         ends.extend(one)
-    top = max(ends, key=lambda p: (twice(side[0], side[1], p), p))
-    low = min([one[1] if one[0] == top else one[0] for one in across if top in one],
-              key=lambda p: (twice(side[0], side[1], p), p))
+    top = max(ends, key=how_far)
+    low = min([one[1] if one[0] == top else one[0] for one in across if top in one], key=how_far)
     return side_between(top, low)
 
 

@@ -4,7 +4,10 @@ import itertools
 from fractions import Fraction
 from math import gcd
 
-from exact import area, exact_between, exact_point, exact_sides, exact_square, exact_wrong, on_a_line, pair_of
+from exact import (
+    area, exact_between, exact_middle, exact_outline, exact_point, exact_sides, exact_square, exact_wrong, on_a_line,
+    pair_of,
+)
 
 
 def share_of_way(a, b, x):
@@ -150,3 +153,63 @@ def exact_pairs(places):
     """All pairs of places as sides, in the order of point 38, which is that of point 37 too."""
     sides = [tuple(sorted(two)) for two in itertools.combinations(places, 2)]
     return sorted(sides, key=lambda one: (exact_square(one[0], ((one[1][0], 1), (one[1][1], 1))), one))
+
+
+def exact_tree(places):
+    """Point 38."""
+    groups = [{p} for p in places]
+    told = []
+    for a, b in exact_pairs(places):
+        one, other = [[group for group in groups if p in group][0] for p in (a, b)]
+        if one is not other:
+            told.append((a, b))
+            groups = [group for group in groups if group not in (one, other)] + [one | other]
+    return told
+
+
+def holds_point(corners, x):
+    """Whether a triangle, a straight way or a single place has the point, in it or on it."""
+    if len(corners) == 3:
+        a, b, c = corners
+        turns = [area(a, b, x), area(b, c, x), area(c, a, x)]
+        return area(a, b, c) != 0 and (min(turns) >= 0 or max(turns) <= 0)
+    a, b = corners[0], corners[-1]
+    return x == a or (a != b and area(a, b, x) == 0 and 0 <= share_of_way(a, b, x) <= 1)
+
+
+def exact_in_outline(places, X):
+    """Point 39: what lies in the outline lies in a triangle of three places, between two or at one."""
+    x = exact_point(X)
+    some = [three for count in (1, 2, 3) for three in itertools.combinations(places, count)]
+    if not any(holds_point(three, x) for three in some):
+        return -1
+    told = exact_outline(places)
+    return 0 if any(holds_point(two, x) for two in zip(told, told[1:] + told[:1])) else 1
+
+
+def as_near_to_both(p, q, a, b):
+    """The points of the way from a to b, its ends among them, that are as near to p as to q."""
+    first, last = [exact_square(p, x) - exact_square(q, x) for x in [((a[0], 1), (a[1], 1)), ((b[0], 1), (b[1], 1))]]
+    if first == last:
+        return []
+    share = Fraction(first) / Fraction(first - last)
+    return [along(a, b, share)] if 0 <= share <= 1 else []
+
+
+def exact_gap(places):
+    """Point 40, out of all points that could be it, whatever the net."""
+    points = [(Fraction(x), Fraction(y)) for x, y in places]
+    told = exact_outline(places)
+    for p, q in itertools.combinations(places, 2):
+        for a, b in zip(told, told[1:] + told[:1]):
+            points += as_near_to_both(p, q, a, b)
+    points = [(pair_of(x), pair_of(y)) for x, y in points]
+    middles = {exact_middle(*three) for three in itertools.combinations(places, 3) if area(*three) != 0}
+    sides = list(zip(told, told[1:] + told[:1]))
+    points += [X for X in middles if all(area(*two, exact_point(X)) >= 0 for two in sides)]
+    found = [(min(exact_square(p, X) for p in places), X) for X in points]
+    if not found:
+        return None
+    most = max(square for square, X in found)
+    X = min((X for square, X in found if square == most), key=exact_point)
+    return (X, pair_of(most))

@@ -158,6 +158,30 @@ class Rows(unittest.TestCase):
         for where, node in self.each(ast.ExceptHandler):
             self.assertIsNotNone(node.type, where)
 
+    def test_errors_taken(self):
+        own = [node.name for where, node in self.each(ast.ClassDef) if where.startswith("errors.py")]
+        for where, node in self.each(ast.ExceptHandler):
+            kinds = node.type.elts if isinstance(node.type, ast.Tuple) else [node.type]
+            for kind in kinds:
+                self.assertIn(kind.id, own + ["KeyError", "ZeroDivisionError", "StopIteration"], where)
+
+    def test_lists_and_dicts_of_a_file_s_top_hold_none_and_are_only_read(self):
+        for path, tree in trees():
+            kept = [node for node in tree.body if isinstance(node, ast.Assign)]
+            names = {node.targets[0].id for node in kept}
+            for node in kept:
+                for inner in ast.walk(node.value):
+                    if inner is not node.value:
+                        self.assertNotIsInstance(inner, (ast.List, ast.Dict, ast.Call), path.name)
+            for node in ast.walk(tree):
+                where = f"{path.name}:{getattr(node, 'lineno', 0)}"
+                if isinstance(node, ast.Subscript) and not isinstance(node.ctx, ast.Load):
+                    self.assertNotIn(getattr(node.value, "id", None), names, where)
+                if isinstance(node, ast.Attribute):
+                    self.assertNotIn(getattr(node.value, "id", None), names, where)
+                if isinstance(node, ast.Name) and isinstance(node.ctx, ast.Store):
+                    self.assertFalse(node.id in names and node.col_offset > 0, where)
+
     def test_values(self):
         for where, node in self.each(ast.Constant):
             self.assertIn(node.value.__class__, (int, str, bool, None.__class__), where)

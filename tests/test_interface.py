@@ -4,8 +4,8 @@ import inspect
 import unittest
 
 from nearland import (
-    covers, crossings, halving, keeping, landback, landpoints, lands, measures, numbers, outlines, pairs, putting, rings,
-    ringways, sweeps, taking, turning, turns, walks,
+    covers, crossings, gaps, halving, keeping, landback, landpoints, lands, measures, numbers, outlines, pages, pairs,
+    putting, rings, ringways, sweeps, taking, texts, trees, turning, turns, walks,
 )
 
 ARGUMENTS = [
@@ -53,6 +53,15 @@ ARGUMENTS = [
     (walks.nearest, ["places", "X"]),
     (walks.walk, ["places", "net", "start", "X"]),
     (pairs.pair, ["places"]),
+    (trees.tree, ["places"]),
+    (trees.halfway, ["a", "b"]),
+    (trees.way, ["sides", "a", "b"]),
+    (gaps.in_outline, ["places", "X"]),
+    (gaps.gap, ["places"]),
+    (texts.read_number, ["text"]),
+    (texts.show_number, ["one"]),
+    (texts.show_point, ["X"]),
+    (pages.answers, ["page"]),
 ]
 
 

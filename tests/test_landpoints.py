@@ -47,8 +47,9 @@ class InLand(unittest.TestCase):
         ])
 
     def test_where_several_stand_at_one_point(self):
+        below = ((1, 2), (-5, 1))
         for p in SQUARE:
-            self.assert_lies(SQUARE, p, [(((1, 2), (1, 2)), 0), (((1, 2), (-5, 1)), where(SQUARE, p, ((1, 2), (-5, 1))))])
+            self.assert_lies(SQUARE, p, [(((1, 2), (1, 2)), 0), (below, where(SQUARE, p, below))])
         self.assert_lies(SQUARE, (0, 0), [(((1, 3), (1, 3)), 1), (((1, 2), (1, 3)), 0), (((2, 3), (1, 3)), -1)])
 
     def test_outside_just_where_some_place_is_nearer(self):
