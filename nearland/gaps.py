@@ -18,8 +18,8 @@ def in_outline(places, X):
 
 
 def as_near(side, way):
-    # The point of a way along the outline that is as near to both ends of the side: there is one where the ways' ends
-    # are not both nearer to the same end. No two places lie alike on both hands of the outline, so not both are 0.
+    # How much farther each end of the way is from the one end of the side than from the other: above 0 at one and below
+    # at the other, some point between is as near to both. Not both are 0, as no place lies beyond the outline.
     first = apart(way[0], side[0]) - apart(way[0], side[1])
     last = apart(way[1], side[0]) - apart(way[1], side[1])
     if first * last > 0:
