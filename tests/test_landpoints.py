@@ -7,7 +7,7 @@ from exact_more import exact_land
 from nearland.landpoints import in_land
 from nearland.lands import land, lands
 from nearland.rings import nearer
-from samples import ALL, CENTRED, FORTY, GRID_NINE, LINES, ONE, SMALL, SQUARE, TWO, points_about
+from samples import ALL, CENTRED, FORTY, GRID_NINE, LINES, ONE, SMALL, SQUARE, TWO, parts_of_a_grid, points_about
 
 
 def where(places, p, X):
@@ -58,6 +58,13 @@ class InLand(unittest.TestCase):
             for X in points_about(places)[::1 if len(places) < 10 else 4]:
                 for p in places[::1 if len(places) < 10 else 3]:
                     self.assertEqual(in_land(p, told[p], X), where(places, p, X), (places, p, X))
+
+    def test_all_parts_of_a_grid(self):
+        points = [((1, 2), (1, 2)), ((1, 1), (1, 1)), ((3, 2), (1, 3)), ((1, 1), (5, 2)), ((-1, 1), (1, 2))]
+        for places in parts_of_a_grid():
+            for p, told in lands(places, exact_net(places)):
+                for X in points:
+                    self.assertEqual(in_land(p, told, X), where(places, p, X), (places, p, X))
 
     def test_starts_and_ends_lie_on_the_border(self):
         for places in SMALL:
